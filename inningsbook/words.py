@@ -49,3 +49,8 @@ def numbered_rows(text):
         if len(words) > 0:
             rows.append((number, words))
     return rows
+
+
+def row_count(text):
+    """How many rows a text has, those without a word counted."""
+    return len(text.split("\n"))

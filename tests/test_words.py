@@ -3,7 +3,7 @@
 import string
 import unittest
 
-from inningsbook.words import is_name, number_in, numbered_rows
+from inningsbook.words import is_name, number_in, numbered_rows, row_count
 
 KEYWORDS = (
     "over overs spell wide noball side innings follow team player start bat bye leg no nobye rope out bowled "
@@ -135,6 +135,12 @@ class Rows(unittest.TestCase):
         first.append((9, []))
         self.assertEqual(first[1], (2, ["a", "b"]))
         self.assertEqual(numbered_rows("a b\na b"), [(1, ["a", "b"]), (2, ["a", "b"])])
+
+    def test_all_rows_are_counted(self):
+        counts = (("", 1), ("a", 1), ("  ", 1), ("\n", 2), ("a\n", 2), ("\n \na\n\n", 5), ("\n" * 1999, 2000))
+        for text, count in counts:
+            with self.subTest(text=text):
+                self.assertEqual(row_count(text), count)
 
 
 if __name__ == "__main__":
