@@ -1,11 +1,19 @@
 """One ball: why it can't be, and what it adds to the sums."""
 
-# Where the two numbers that a ball may add stand in the rules.
-WIDE_AT = 3
-NOBALL_AT = 4
+from inningsbook.rules import NOBALL_AT, WIDE_AT
 
 FOUR = 4
 SIX = 6
+
+# Where each part stands in what ball_sums tells.
+TEAM_RUNS = 0
+BAT_RUNS = 1
+EXTRA_RUNS = 2
+CHARGED_RUNS = 3
+IS_FAIR = 4
+IS_FACED = 5
+IS_CROSSED = 6
+IS_CREDITED = 7
 
 
 def rope_goes(kind, runs):

@@ -15,6 +15,16 @@ KINDS = (
     ("follow", 0, 999, 0),
 )
 
+# Where each number stands in the tuple.
+OVER_AT = 0
+OVERS_AT = 1
+SPELL_AT = 2
+WIDE_AT = 3
+NOBALL_AT = 4
+SIDE_AT = 5
+INNINGS_AT = 6
+FOLLOW_AT = 7
+
 
 def within_range(word, number):
     """Whether a row of this word may have this number; no other word may have any."""
