@@ -4,6 +4,7 @@ from inningsbook.balls import BAT_RUNS, CHARGED_RUNS, EXTRA_RUNS, TEAM_RUNS
 from inningsbook.balls import IS_CREDITED, IS_FACED, IS_FAIR
 from inningsbook.balls import FOUR, SIX, ball_sums
 from inningsbook.rules import NOBALL_AT
+from inningsbook.tally import added, totals
 
 
 def is_noball(entry):
@@ -14,19 +15,6 @@ def is_noball(entry):
 def reaches_rope(entry, runs):
     """Whether a ball reaches the rope with these runs by the bat."""
     return entry[1] in ("bat", "no") and entry[3] and entry[2] == runs
-
-
-def added(one, two):
-    """The sums of two tuples of numbers, part by part."""
-    return tuple([first + second for first, second in zip(one, two)])
-
-
-def totals(parts):
-    """The list of the keys of pairs (key, numbers) as they first come, each with the sums of its numbers behind it."""
-    sums = {}
-    for key, numbers in parts:
-        sums[key] = added(sums[key], numbers) if key in sums else numbers
-    return [key + sums[key] for key in sums]
 
 
 def bat_part(rules, entry):
