@@ -147,7 +147,7 @@ def bowl_refusal(innings, fielding, spell, name):
     return None
 
 
-def swap_refusal(innings, old):
+def swap_refusal_within(innings, old):
     """The word by which it is refused that a player is swapped within an innings, or None."""
     return "there" if innings.stands(old) or old == innings.bowler else None
 

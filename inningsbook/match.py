@@ -1,7 +1,7 @@
 """The match: whose turn it is, what is let, when it ends, and all that is told of it."""
 
 from inningsbook.errors import NotLet
-from inningsbook.innings import Innings, refusal_within, swap_refusal
+from inningsbook.innings import Innings, refusal_within, swap_refusal_within
 from inningsbook.rules import FOLLOW_AT, INNINGS_AT, OVERS_AT
 from inningsbook.teams import TEAM_COUNT, names_told
 
@@ -87,14 +87,14 @@ class Match:
             return "team"
         return "alike" if entry[2] == entry[3] else None
 
-    def swap_refused(self, old, new):
+    def swap_refusal(self, old, new):
         """The word by which a swap is refused, or None."""
         if old not in names_told(self.sides, "player"):
             return "team"
         if new in self.known:
             return "name"
         going = self.going()
-        return None if going is None else swap_refusal(going, old)
+        return None if going is None else swap_refusal_within(going, old)
 
     def follow_refusal(self):
         """The word by which a follow-on is refused, or None."""
@@ -109,7 +109,7 @@ class Match:
         if entry[0] == "start":
             return self.start_refusal(entry)
         if entry[0] == "swap":
-            return self.swap_refused(entry[1], entry[2])
+            return self.swap_refusal(entry[1], entry[2])
         if entry[0] == "follow":
             return self.follow_refusal()
         if entry[0] == "close":
